@@ -1,0 +1,1 @@
+"""Cards of different heights, laid one after another into the lowest column."""

@@ -1,0 +1,35 @@
+"""Limits and checks of arguments that the files of the package share."""
+
+from lowcolumns.errors import InvalidHeightError, InvalidIndexError
+
+MOST_COLUMNS = 30
+MOST_CARDS = 200
+MOST_HEIGHT = 10 ** 30
+
+
+def is_integer_within(value, least, greatest):
+    """Return whether any value is an integer from least to greatest."""
+    # True and False are instances of int, but no integers for this package.
+    if not isinstance(value, int) or isinstance(value, bool):
+        return False
+    return least <= value <= greatest
+
+
+def is_list_of_integers(value, fewest, most, least):
+    """Return whether any value is a list of fewest to most integers from least to MOST_HEIGHT."""
+    # Exactly a list is asked for, so an instance of a subclass is none.
+    if type(value) == list and fewest <= len(value) <= most:
+        return all([is_integer_within(item, least, MOST_HEIGHT) for item in value])
+    return False
+
+
+def check_height(height):
+    """Raise an error if the value is not a height."""
+    if not is_integer_within(height, 1, MOST_HEIGHT):
+        raise InvalidHeightError("a height is an integer from 1 to 10 ** 30")
+
+
+def check_index(index, many):
+    """Raise an error if the value is not an integer from 0 to less than many."""
+    if not is_integer_within(index, 0, many - 1):
+        raise InvalidIndexError("there is no such index")
