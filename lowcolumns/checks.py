@@ -1,10 +1,11 @@
 """Limits and checks of arguments that the files of the package share."""
 
-from lowcolumns.errors import InvalidHeightError, InvalidIndexError
+from lowcolumns.errors import InvalidHeightError, InvalidIndexError, InvalidNumberError
 
 MOST_COLUMNS = 30
 MOST_CARDS = 200
 MOST_HEIGHT = 10 ** 30
+MOST_NUMBER = 10 ** 30
 
 
 def is_integer_within(value, least, greatest):
@@ -15,11 +16,11 @@ def is_integer_within(value, least, greatest):
     return least <= value <= greatest
 
 
-def is_list_of_integers(value, fewest, most, least):
-    """Return whether any value is a list of fewest to most integers from least to MOST_HEIGHT."""
+def is_list_of_integers(value, fewest, most, least, greatest):
+    """Return whether any value is a list of fewest to most integers from least to greatest."""
     # Exactly a list is asked for, so an instance of a subclass is none.
     if type(value) == list and fewest <= len(value) <= most:
-        return all([is_integer_within(item, least, MOST_HEIGHT) for item in value])
+        return all([is_integer_within(item, least, greatest) for item in value])
     return False
 
 
@@ -33,3 +34,9 @@ def check_index(index, many):
     """Raise an error if the value is not an integer from 0 to less than many."""
     if not is_integer_within(index, 0, many - 1):
         raise InvalidIndexError("there is no such index")
+
+
+def check_number(number, greatest):
+    """Raise an error if the value is not an integer from 0 to greatest."""
+    if not is_integer_within(number, 0, greatest):
+        raise InvalidNumberError("the number is no integer or not within its bounds")

@@ -1,17 +1,17 @@
 """Layouts of cards: each card goes into the column that is lowest so far."""
 
-from lowcolumns.checks import MOST_CARDS, MOST_COLUMNS, is_integer_within, is_list_of_integers
+from lowcolumns.checks import MOST_CARDS, MOST_COLUMNS, MOST_HEIGHT, is_integer_within, is_list_of_integers
 from lowcolumns.errors import InvalidCardsError, InvalidColumnError, InvalidFlagError, InvalidStartError
 
 
 def is_start(value):
     """Return whether any value is a start."""
-    return is_list_of_integers(value, 1, MOST_COLUMNS, 0)
+    return is_list_of_integers(value, 1, MOST_COLUMNS, 0, MOST_HEIGHT)
 
 
 def is_cards(value):
     """Return whether any value is cards."""
-    return is_list_of_integers(value, 0, MOST_CARDS, 1)
+    return is_list_of_integers(value, 0, MOST_CARDS, 1, MOST_HEIGHT)
 
 
 def check_start(start):

@@ -12,6 +12,7 @@ from lowcolumns.errors import (
     InvalidFlagError,
     InvalidHeightError,
     InvalidIndexError,
+    InvalidNumberError,
     InvalidStartError,
 )
 
@@ -41,11 +42,18 @@ WRONG_CARDS = NO_LISTS + [[1] * 201, [LARGE] * 250] + lists_with(1, NO_INTEGERS 
 WRONG_HEIGHTS = NO_INTEGERS + [0, -1, LARGE + 1, -LARGE]
 WRONG_FLAGS = [value for value in NO_INTEGERS if not isinstance(value, bool)] + [0, 1, -1]
 
+WRONG_NUMBERS = NO_INTEGERS + [-1, LARGE + 1, -LARGE, 10 ** 31]
+
 WRONG = {
     "start": (InvalidStartError, WRONG_STARTS),
+    "other": (InvalidStartError, WRONG_STARTS),
     "heights": (InvalidCardsError, WRONG_CARDS),
     "height": (InvalidHeightError, WRONG_HEIGHTS),
     "right": (InvalidFlagError, WRONG_FLAGS),
+    "extra": (InvalidNumberError, WRONG_NUMBERS),
+    "limit": (InvalidNumberError, WRONG_NUMBERS),
+    "level": (InvalidNumberError, WRONG_NUMBERS),
+    "count": (InvalidNumberError, WRONG_NUMBERS),
 }
 
 
@@ -168,10 +176,10 @@ class FunctionCase(unittest.TestCase):
 
 
 def spoil(result):
-    """Change a returned list and the lists within it."""
+    """Change a returned list and the lists within it; nothing else can be changed."""
+    if not isinstance(result, list):
+        return
     for item in result:
-        if isinstance(item, list):
-            item.append(-7)
-            item.reverse()
+        spoil(item)
     result.append(-7)
     result.reverse()

@@ -1,10 +1,12 @@
-"""Point 2, as far as lowcolumns/layouts.py and lowcolumns/changes.py go."""
+"""Point 2, as far as lowcolumns/layouts.py, changes.py, columns.py and starts.py go."""
 
 import unittest
 
 from lowcolumns.changes import effect_of_exchange, effect_of_insert
-from lowcolumns.layouts import tops_of
-from tests.support import LARGE, small_samples, wide_samples
+from lowcolumns.columns import bottoms_by_columns, effect_of_column
+from lowcolumns.layouts import end_of, tops_of
+from lowcolumns.starts import gap_between, gaps_along
+from tests.support import LARGE, mixed, small_samples, wide_samples
 
 
 class GuaranteesTest(unittest.TestCase):
@@ -34,6 +36,39 @@ class GuaranteesTest(unittest.TestCase):
                 most = abs(heights[index] - heights[index + 1])
                 self.assertEqual(len(growths), len(heights))
                 self.assertTrue(all(-most <= growth <= most for growth in growths), (start, heights, index))
+
+    def test_one_column_more_moves_no_card_down(self):
+        for start, heights in list(small_samples(3)) + list(wide_samples()):
+            start = start[:29]
+            for extra in (0, 1, 3, LARGE):
+                growths = effect_of_column(start, heights, extra)
+                self.assertEqual(len(growths), len(heights))
+                self.assertTrue(all(growth <= 0 for growth in growths), (start, heights, extra))
+
+    def test_the_tops_and_bottoms_with_one_column_more_show_the_same(self):
+        for start, heights in list(small_samples(3)) + list(wide_samples()):
+            before, after = tops_of(start[:29], heights), tops_of(start[:29] + [1], heights)
+            self.assertTrue(all(new <= old for old, new in zip(before, after)), (start, heights))
+        for _, heights in wide_samples():
+            bottoms = list(bottoms_by_columns(heights))
+            self.assertEqual(bottoms, sorted(bottoms, reverse=True))
+
+    def test_the_gaps_are_intervals_each_one_within_the_one_before(self):
+        for start, heights in list(small_samples(3)) + list(wide_samples()):
+            for other in ([0] * len(start), start[::-1], mixed(len(heights), len(start), 0, 9), start[1:] + [LARGE]):
+                gaps = list(gaps_along(start, other, heights))
+                self.assertEqual(len(gaps), len(heights) + 1)
+                self.assertEqual(gaps[0], gap_between(start, other))
+                self.assertTrue(all(least <= greatest for least, greatest in gaps), (start, other, heights))
+                for outer, inner in zip(gaps, gaps[1:]):
+                    self.assertTrue(outer[0] <= inner[0] and inner[1] <= outer[1], (start, other, heights))
+
+    def test_the_sorted_ends_of_two_starts_show_the_same(self):
+        for start, heights in small_samples(3):
+            other = [3] + start[:-1]
+            least, greatest = gap_between(start, other)
+            ends = zip(sorted(end_of(start, heights)), sorted(end_of(other, heights)))
+            self.assertTrue(all(least <= new - old <= greatest for old, new in ends), (start, heights))
 
 
 if __name__ == "__main__":
