@@ -15,6 +15,16 @@ def without_item(items, index):
     return items[:index] + items[index + 1:]
 
 
+def with_moved_item(items, index, place):
+    """Return a new list in which the item at the index is moved, so that its index is the place."""
+    return with_item(without_item(items, index), place, items[index])
+
+
+def with_other_item(items, index, item):
+    """Return a new list in which another item stands at the index."""
+    return with_item(without_item(items, index), index, item)
+
+
 def growths(before, after):
     """Return how much each integer of a list has grown."""
     return [new - old for old, new in zip(before, after)]
@@ -44,9 +54,9 @@ def effect_of_move(start, heights, index, place):
     check_start_and_cards(start, heights)
     check_index(index, len(heights))
     check_index(place, len(heights))
-    moved = with_item(without_item(heights, index), place, heights[index])
     before = without_item(tops_of(start, heights), index)
-    return growths(before, without_item(tops_of(start, moved), place))
+    after = tops_of(start, with_moved_item(heights, index, place))
+    return growths(before, without_item(after, place))
 
 
 def effect_of_stretch(start, heights, index, height):
@@ -54,8 +64,7 @@ def effect_of_stretch(start, heights, index, height):
     check_start_and_cards(start, heights)
     check_index(index, len(heights))
     check_height(height)
-    stretched = with_item(without_item(heights, index), index, height)
-    return growths(tops_of(start, heights), tops_of(start, stretched))
+    return growths(tops_of(start, heights), tops_of(start, with_other_item(heights, index, height)))
 
 
 def effect_of_exchange(start, heights, index):
@@ -63,5 +72,4 @@ def effect_of_exchange(start, heights, index):
     check_start_and_cards(start, heights)
     # The last card has no next one.
     check_index(index, len(heights) - 1)
-    exchanged = with_item(without_item(heights, index), index + 1, heights[index])
-    return growths(tops_of(start, heights), tops_of(start, exchanged))
+    return growths(tops_of(start, heights), tops_of(start, with_moved_item(heights, index, index + 1)))

@@ -1,6 +1,6 @@
 """Limits and checks of arguments that the files of the package share."""
 
-from lowcolumns.errors import InvalidHeightError, InvalidIndexError, InvalidNumberError
+from lowcolumns.errors import InvalidColumnsError, InvalidHeightError, InvalidIndexError, InvalidNumberError
 
 MOST_COLUMNS = 30
 MOST_CARDS = 200
@@ -24,9 +24,20 @@ def is_list_of_integers(value, fewest, most, least, greatest):
     return False
 
 
+def is_one_height(value):
+    """Return whether any value is a height."""
+    return is_integer_within(value, 1, MOST_HEIGHT)
+
+
+def check_columns(columns):
+    """Raise an error if the value is not a number of columns."""
+    if not is_integer_within(columns, 1, MOST_COLUMNS):
+        raise InvalidColumnsError("a number of columns is an integer from 1 to 30")
+
+
 def check_height(height):
     """Raise an error if the value is not a height."""
-    if not is_integer_within(height, 1, MOST_HEIGHT):
+    if not is_one_height(height):
         raise InvalidHeightError("a height is an integer from 1 to 10 ** 30")
 
 

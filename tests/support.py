@@ -9,11 +9,13 @@ import unittest
 from lowcolumns.errors import (
     InvalidCardsError,
     InvalidColumnError,
+    InvalidColumnsError,
     InvalidFlagError,
     InvalidHeightError,
     InvalidIndexError,
     InvalidNumberError,
     InvalidStartError,
+    InvalidTopsError,
 )
 
 Z, H = [0, 0, 0], [5, 2, 4, 3, 1, 2]
@@ -43,6 +45,8 @@ WRONG_HEIGHTS = NO_INTEGERS + [0, -1, LARGE + 1, -LARGE]
 WRONG_FLAGS = [value for value in NO_INTEGERS if not isinstance(value, bool)] + [0, 1, -1]
 
 WRONG_NUMBERS = NO_INTEGERS + [-1, LARGE + 1, -LARGE, 10 ** 31]
+WRONG_WIDTHS = NO_INTEGERS + [0, -1, 31, 40, LARGE, -LARGE]
+WRONG_TOPS = NO_LISTS + [[0] * 201, [5] * 250] + lists_with(0, NO_INTEGERS + [-1, LARGE, LARGE + 1, -LARGE])
 
 WRONG = {
     "start": (InvalidStartError, WRONG_STARTS),
@@ -54,6 +58,11 @@ WRONG = {
     "limit": (InvalidNumberError, WRONG_NUMBERS),
     "level": (InvalidNumberError, WRONG_NUMBERS),
     "count": (InvalidNumberError, WRONG_NUMBERS),
+    "low": (InvalidNumberError, WRONG_NUMBERS),
+    "high": (InvalidNumberError, WRONG_NUMBERS + [0]),
+    "columns": (InvalidColumnsError, WRONG_WIDTHS),
+    "tops": (InvalidTopsError, WRONG_TOPS),
+    "gap": (InvalidNumberError, WRONG_NUMBERS),
 }
 
 

@@ -1,11 +1,14 @@
-"""Point 2, as far as lowcolumns/layouts.py, changes.py, columns.py and starts.py go."""
+"""Point 2: the main guarantees for all starts and all cards."""
 
+import math
 import unittest
 
 from lowcolumns.changes import effect_of_exchange, effect_of_insert
 from lowcolumns.columns import bottoms_by_columns, effect_of_column
 from lowcolumns.layouts import end_of, tops_of
 from lowcolumns.starts import gap_between, gaps_along
+from lowcolumns.tops import count_ways
+from lowcolumns.wall import Wall
 from tests.support import LARGE, mixed, small_samples, wide_samples
 
 
@@ -69,6 +72,34 @@ class GuaranteesTest(unittest.TestCase):
             least, greatest = gap_between(start, other)
             ends = zip(sorted(end_of(start, heights)), sorted(end_of(other, heights)))
             self.assertTrue(all(least <= new - old <= greatest for old, new in ends), (start, heights))
+
+    def test_the_ways_are_the_product_of_the_numbers_of_sets_of_columns(self):
+        for start, heights in list(small_samples(4)) + list(wide_samples()):
+            tops = tops_of([0] * len(start), heights)
+            if all(top < LARGE for top in tops):
+                sets = [math.comb(len(start), tops.count(top)) for top in set(tops) if top > 0]
+                self.assertEqual(count_ways(len(start), tops), math.prod(sets), (start, heights))
+
+    def test_a_wall_shows_the_same(self):
+        for _, heights in wide_samples():
+            wall = Wall(4)
+            for at in range(0, min(len(heights), 180), 20):
+                wall.add(*heights[at:at + 20])
+            many = len(wall)
+            for index, height in ((0, 5), (many // 2, 1), (many, LARGE)):
+                before = wall.tops
+                wall.put_in(index, height)
+                after = wall.tops[:index] + wall.tops[index + 1:]
+                self.assertTrue(all(0 <= new - old <= height for old, new in zip(before, after, strict=True)))
+                wall.undo()
+            if many > 1:
+                before, most = wall.tops, abs(wall.heights[0] - wall.heights[1])
+                wall.shift(0, 1)
+                self.assertTrue(all(abs(new - old) <= most for old, new in zip(before, wall.tops, strict=True)))
+                wall.undo()
+            before = wall.tops
+            wall.resize(5)
+            self.assertTrue(all(new <= old for old, new in zip(before, wall.tops, strict=True)))
 
 
 if __name__ == "__main__":
